@@ -1,0 +1,1 @@
+"""Gatefold: nets of gates folded, cut and laid as tables."""
