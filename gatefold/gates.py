@@ -5,12 +5,30 @@ from gatefold.bits import full_column
 LETTERS = "abcdefghijklmnopqrstuvwxyz"
 LONGEST_NAME = 8
 KEPT_WORDS = ("in", "out", "is", "and", "or", "either", "not", "choose", "most", "yes", "no")
+# For each word of a gate, how many parts it has at the least and at the most.
+PART_COUNTS = {
+    "and": (2, 6),
+    "or": (2, 6),
+    "either": (2, 6),
+    "not": (1, 1),
+    "choose": (3, 3),
+    "most": (3, 3),
+    "yes": (0, 0),
+    "no": (0, 0),
+}
 
 
 def is_name(text):
     if len(text) < 1 or len(text) > LONGEST_NAME or text in KEPT_WORDS:
         return False
     return all([sign in LETTERS for sign in text])
+
+
+def has_parts(word, count):
+    if word not in PART_COUNTS:
+        return False
+    bounds = PART_COUNTS[word]
+    return bounds[0] <= count <= bounds[1]
 
 
 def all_lit(columns, every):

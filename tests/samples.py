@@ -1,8 +1,31 @@
-"""What several test files need: nets made by a fixed seed, and a second way to tell what they tell."""
+"""What several test files need: nets and folds made by a fixed seed, and a second way to tell what they tell."""
 
 import random
 
+from gatefold.folds import Fold
+
 KEPT_WORDS = ["in", "out", "is", "and", "or", "either", "not", "choose", "most", "yes", "no"]
+
+# Signs that are neither a blank nor a small letter: many of them are blanks or small letters to Python.
+WRONG_SIGNS = list("AMZ059-_.,;'\"!`{}|~@[/:#\t\n\r\0\x0b\x0c\x1c\x1d\x1e\x1f\x7f\x85\xa0") + [
+    "\u1680",
+    "\u2003",
+    "\u2028",
+    "\u2029",
+    "\u3000",
+    "\u200b",
+    "\ufeff",
+    "\u00e9",
+    "\u00df",
+    "\u00aa",
+    "\u0131",
+    "\u03b1",
+    "\u0430",
+    "\uff41",
+    "\u0301",
+    "\ud800",
+    "\U0001d41a",
+]
 
 # For each word of a gate, the numbers of parts that it may have.
 COUNTS = {
@@ -78,3 +101,38 @@ def made_net(many, gate_count, output_count, seed):
     # The later gates are the deeper ones: without them much of the net would go unseen.
     outputs = [told[-1]] + [chance.choice(told) for output in range(output_count - 1)]
     return inputs, gates, outputs
+
+
+def fold_pairs(fold):
+    """The pairs of all and-knots of a fold, in their order."""
+    return [fold.pair(knot) for knot in range(fold.many + 1, fold.total())]
+
+
+def made_fold(many, knot_count, seed, reach=None):
+    """A fold of so many knots, the same for the same seed; `reach` tells how far down ties go, at the most."""
+    chance = random.Random(seed)
+    fold = Fold(many)
+    while fold.total() < knot_count:
+        top = 2 * fold.total() - 1
+        low = 0 if reach is None else max(0, top - 2 * reach)
+        fold.both(chance.randint(low, top), chance.randint(low, top))
+    return fold
+
+
+def braided_fold(many, knot_count):
+    """A fold in which each and-knot has the two knots ahead of it: the ways down grow beyond all count."""
+    fold = Fold(many)
+    while fold.total() < knot_count:
+        top = fold.total() - 1
+        fold.both(2 * top + top // 3 % 2, 2 * (top - 1) + top % 2)
+    return fold
+
+
+def tie_truths(fold, lighting):
+    """The truths of all ties of a fold at a lighting, told apart from the program."""
+    truths = [False] + [f"{lighting:b}".zfill(fold.many)[-number] == "1" for number in range(1, fold.many + 1)]
+    for one, other in fold_pairs(fold):
+        one_lit = truths[one // 2] if one % 2 == 0 else not truths[one // 2]
+        other_lit = truths[other // 2] if other % 2 == 0 else not truths[other // 2]
+        truths.append(one_lit and other_lit)
+    return [truth != bool(turn) for truth in truths for turn in (0, 1)]

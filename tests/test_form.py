@@ -32,6 +32,13 @@ METHODS = {"__init__", "__eq__", "__repr__", "__str__", "__len__"}
 # L17: names that are not used.
 NOT_NAMES = {"register", "mro", "elements", "open", "input", "version_info", "with_traceback", "add_note"}
 
+# L25: the methods of Python's own values that may be called.
+OWN_METHODS = set(
+    """append clear copy count endswith extend find get index insert isalnum isalpha isdigit islower isspace isupper
+    items join keys ljust lower lstrip partition pop remove replace reverse rfind rjust rpartition rsplit rstrip
+    setdefault split splitlines startswith strip update upper values zfill bit_length""".split()
+)
+
 
 def bound_at_top(tree):
     names = []
@@ -57,6 +64,27 @@ def def_names(tree):
     for node in ast.walk(tree):
         if isinstance(node, (ast.FunctionDef, ast.ClassDef)) and node.name not in METHODS:
             yield node.name
+        if isinstance(node, ast.Attribute) and isinstance(node.ctx, ast.Store):
+            yield node.attr
+
+
+def drawn_names(tree):
+    """Every name of a class of the file or of an import."""
+    names = {node.name for node in tree.body if isinstance(node, ast.ClassDef)}
+    for node in tree.body:
+        if isinstance(node, ast.ImportFrom):
+            names |= {alias.asname or alias.name for alias in node.names}
+    return names
+
+
+def method_names(tree):
+    for node in tree.body:
+        if isinstance(node, ast.ClassDef):
+            yield from (method.name for method in node.body if isinstance(method, ast.FunctionDef))
+
+
+def value_names(tree):
+    for node in ast.walk(tree):
         if isinstance(node, ast.Attribute) and isinstance(node.ctx, ast.Store):
             yield node.attr
 
@@ -111,6 +139,22 @@ class FormTest(unittest.TestCase):
             for name in [*plain_names(tree), *top]:
                 with self.subTest(stem, name=name):
                     self.assertFalse(hasattr(builtins, name))
+
+    def test_names_that_are_drawn_keep_their_meaning(self):
+        for stem, tree in self.trees.items():
+            for name in plain_names(tree):
+                with self.subTest(stem, name=name):
+                    self.assertNotIn(name, drawn_names(tree))
+
+    def test_methods_and_values(self):
+        methods = {name for tree in self.trees.values() for name in method_names(tree)}
+        values = {name for tree in self.trees.values() for name in value_names(tree)}
+        self.assertEqual(methods & values, set())
+        for stem, tree in self.trees.items():
+            for node in ast.walk(tree):
+                if isinstance(node, ast.Call) and isinstance(node.func, ast.Attribute):
+                    with self.subTest(stem, line=node.lineno):
+                        self.assertIn(node.func.attr, methods | OWN_METHODS)
 
     def test_imports(self):
         drawn = {}
