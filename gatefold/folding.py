@@ -1,5 +1,6 @@
 """Gates and nets as knots of a fold, and folds swept of what nobody needs."""
 
+from gatefold.cones import reached
 from gatefold.folds import ALWAYS, NEVER, Fold, turned
 
 
@@ -56,31 +57,17 @@ def gate_tie(fold, word, ties):
     return ALWAYS if word == "yes" else NEVER
 
 
-def needed_knots(fold, ties):
-    needed = [False] * fold.total()
-    for tie in ties:
-        needed[tie // 2] = True
-    # The knots of a knot's ties lie below it: from the top down, all that need a knot are
-    # looked at ahead of it, and each knot but once.
-    for knot in range(fold.total() - 1, fold.many, -1):
-        if needed[knot]:
-            for tie in fold.pair(knot):
-                needed[tie // 2] = True
-    return needed
-
-
 def moved_tie(moved, tie):
     return moved[tie // 2] + tie % 2
 
 
 def swept(fold, ties):
-    needed = needed_knots(fold, ties)
     clean = Fold(fold.many)
     # For each knot that stays, the tie in the new fold that is lit where it is.
     moved = dict([(knot, 2 * knot) for knot in range(fold.many + 1)])
-    for knot in range(fold.many + 1, fold.total()):
-        if needed[knot]:
-            pair = fold.pair(knot)
+    for knot in reached(fold, [tie // 2 for tie in ties], {}):
+        pair = fold.pair(knot)
+        if pair is not None:
             moved[knot] = clean.both(moved_tie(moved, pair[0]), moved_tie(moved, pair[1]))
     return clean, [moved_tie(moved, tie) for tie in ties]
 

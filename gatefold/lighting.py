@@ -8,9 +8,12 @@ def lit_knots(fold, top, inputs, every):
     # `inputs` are columns: of all lightings, or of one alone. The knots above `top` are left out.
     lit = [0] + inputs
     for knot in range(fold.many + 1, top + 1):
-        pair = fold.pair(knot)
-        lit.append(lit_tie(lit, pair[0], every) & lit_tie(lit, pair[1], every))
+        lit.append(lit_pair(lit, fold.pair(knot), every))
     return lit
+
+
+def lit_pair(lit, pair, every):
+    return lit_tie(lit, pair[0], every) & lit_tie(lit, pair[1], every)
 
 
 def lit_tie(lit, tie, every):

@@ -1,8 +1,13 @@
 """What several test files need: nets and folds made by a fixed seed, and a second way to tell what they tell."""
 
+import itertools
 import random
 
+from gatefold.errors import FoldError
 from gatefold.folds import Fold
+
+# A whole number of as many figures as are promised.
+HUGE = 10**399
 
 KEPT_WORDS = ["in", "out", "is", "and", "or", "either", "not", "choose", "most", "yes", "no"]
 
@@ -38,6 +43,15 @@ COUNTS = {
     "yes": [0],
     "no": [0],
 }
+
+
+def refusal(ask, *handed):
+    """The class of the refusal, None where nothing is refused."""
+    try:
+        ask(*handed)
+    except FoldError as taken:
+        return taken.__class__
+    return None
 
 
 def gate_truth(word, truths):
@@ -126,6 +140,60 @@ def braided_fold(many, knot_count):
         top = fold.total() - 1
         fold.both(2 * top + top // 3 % 2, 2 * (top - 1) + top % 2)
     return fold
+
+
+def long_row(many, count):
+    """A fold in which each and-knot has the one ahead of it, turned and not by turns."""
+    fold = Fold(many)
+    for number in range(count - fold.total()):
+        fold.both(2 * fold.total() - 2 + number % 2, 2 + number % 3)
+    return fold
+
+
+def lower_knots(fold, knot):
+    """The knots of the ties of an and-knot; none of another knot."""
+    pair = fold.pair(knot)
+    return [] if pair is None else [tie // 2 for tie in pair]
+
+
+def cone_sets(fold):
+    """The cones of all knots, told apart from the program: from the inputs up."""
+    cones = []
+    for knot in range(fold.total()):
+        cones.append({knot}.union(*[cones[lower] for lower in lower_knots(fold, knot)]))
+    return cones
+
+
+def cut_truth(fold, knot, some, cones):
+    """Whether a list is a cut, told apart from the program: from the inputs up, what is stopped below each knot."""
+    if not fold.many < knot < fold.total() or some != sorted(set(some)):
+        return False
+    if not set(some) <= cones[knot] - {knot}:
+        return False
+    stopped = []
+    for lower in range(knot + 1):
+        below = [stopped[other] for other in lower_knots(fold, lower)]
+        stopped.append(lower in some or (below != [] and all(below)))
+    return stopped[knot]
+
+
+def small_cuts(fold, knot, size, cones):
+    """All cuts of at most so many knots."""
+    inner = sorted(cones[knot] - {knot})
+    lists = [list(some) for count in range(size + 1) for some in itertools.combinations(inner, count)]
+    return [some for some in lists if cut_truth(fold, knot, some, cones)]
+
+
+def made_cut(fold, knot, chance, size):
+    """A cut of at most so many knots, by going down here and there from the knots of the two ties."""
+    cut = sorted(lower_knots(fold, knot))
+    for step in range(chance.randint(0, 30)):
+        lower = chance.choice(cut)
+        below = lower_knots(fold, lower)
+        other = sorted({*cut, *below} - {lower})
+        if below and len(other) <= size:
+            cut = other
+    return cut
 
 
 def tie_truths(fold, lighting):

@@ -3,9 +3,7 @@ import unittest
 
 from gatefold.errors import FoldError, NoKnot, NoTie
 from gatefold.folds import Fold
-from samples import braided_fold, fold_pairs, made_fold, tie_truths
-
-HUGE = 10**399
+from samples import HUGE, braided_fold, fold_pairs, made_fold, tie_truths
 
 
 class Checks(unittest.TestCase):

@@ -3,9 +3,7 @@ import unittest
 from gatefold.errors import FoldError, NoTie
 from gatefold.folds import Fold
 from gatefold.lighting import column, first_unlike, is_lit, knot_columns
-from samples import braided_fold, fold_pairs, made_fold, tie_truths
-
-HUGE = 10**399
+from samples import HUGE, braided_fold, fold_pairs, long_row, made_fold, tie_truths
 
 
 class Checks(unittest.TestCase):
@@ -29,14 +27,6 @@ def tie_columns(fold):
     """The columns of all ties, told apart from the program."""
     rows = [tie_truths(fold, lighting) for lighting in reversed(range(2**fold.many))]
     return [int("".join("01"[truth] for truth in truths), 2) for truths in zip(*rows)]
-
-
-def long_row(many, count):
-    """A fold in which each and-knot has the one ahead of it, turned and not by turns."""
-    fold = Fold(many)
-    for number in range(count - fold.total()):
-        fold.both(2 * fold.total() - 2 + number % 2, 2 + number % 3)
-    return fold
 
 
 class LitTest(Checks):

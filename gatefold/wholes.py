@@ -1,0 +1,10 @@
+"""Whole numbers, and lists of them."""
+
+
+def is_whole(thing):
+    # To Python a truth is a number, too.
+    return isinstance(thing, int) and not isinstance(thing, bool)
+
+
+def is_rising(numbers):
+    return all([one < other for one, other in zip(numbers, numbers[1:])])
