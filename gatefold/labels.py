@@ -3,14 +3,14 @@
 from gatefold.cones import cone
 from gatefold.errors import NoKnot, NoSize
 from gatefold.mazes import apart
-from gatefold.wholes import is_whole
+from gatefold.wholes import is_between
 
 LEAST_SIZE = 2
 GREATEST_SIZE = 6
 
 
 def need_size(size):
-    if not is_whole(size) or size < LEAST_SIZE or size > GREATEST_SIZE:
+    if not is_between(size, LEAST_SIZE, GREATEST_SIZE):
         raise NoSize("not a whole number from 2 to 6")
 
 

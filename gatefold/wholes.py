@@ -6,5 +6,9 @@ def is_whole(thing):
     return isinstance(thing, int) and not isinstance(thing, bool)
 
 
+def is_between(thing, least, greatest):
+    return is_whole(thing) and least <= thing <= greatest
+
+
 def is_rising(numbers):
     return all([one < other for one, other in zip(numbers, numbers[1:])])

@@ -9,6 +9,11 @@ from gatefold.folds import Fold
 # A whole number of as many figures as are promised.
 HUGE = 10**399
 
+# Things that are no whole numbers: some of them can be neither held against a number nor sought in a dict.
+NO_WHOLES = [True, False, None, "", "3", "two", 2.0, 3.5, float("nan"), [], [3], (), (2,), {}, {4: True}, 3j, b"4", int]
+
+WRONG_SIZES = [1, 0, -1, -2, -6, 7, 8, 100, HUGE, -HUGE] + NO_WHOLES
+
 KEPT_WORDS = ["in", "out", "is", "and", "or", "either", "not", "choose", "most", "yes", "no"]
 
 # Signs that are neither a blank nor a small letter: many of them are blanks or small letters to Python.
@@ -150,6 +155,24 @@ def long_row(many, count):
     return fold
 
 
+def round_row(many, count):
+    """A fold in which each and-knot has the one ahead of it and one of the inputs, these in turn."""
+    fold = Fold(many)
+    while fold.total() < count:
+        top = fold.total() - 1
+        fold.both(2 * top + top % 2, 2 * (1 + top % (many - 1)))
+    return fold
+
+
+def wide_braid(many, count):
+    """A fold in which each and-knot has the one ahead of it and one of those `many` ahead."""
+    fold = Fold(many)
+    while fold.total() < count:
+        top = fold.total() - 1
+        fold.both(2 * top + top % 2, 2 * (top - many + 1) + top // 2 % 2)
+    return fold
+
+
 def lower_knots(fold, knot):
     """The knots of the ties of an and-knot; none of another knot."""
     pair = fold.pair(knot)
@@ -196,6 +219,30 @@ def made_cut(fold, knot, chance, size):
     return cut
 
 
+def told_table(fold, knot, cut):
+    """The table, told apart from the program: bit by bit, all knots that can be told from the cut up."""
+    signs = ""
+    for number in range(2 ** len(cut)):
+        truths = {lower: number // 2**place % 2 == 1 for place, lower in enumerate(cut)}
+        for lower in range(max(fold.many, cut[0]) + 1, knot + 1):
+            if lower not in truths and all(other in truths for other in lower_knots(fold, lower)):
+                truths[lower] = all(truths[tie // 2] != (tie % 2 == 1) for tie in fold.pair(lower))
+        signs = "01"[truths[knot]] + signs
+    return int(signs, 2)
+
+
+def merged_labels(fold, size):
+    """The labels by all cuts that are had by joining those of the knots of the two ties, knot by knot."""
+    cuts = [{frozenset([knot])} for knot in range(fold.many + 1)]
+    labels = [0] * (fold.many + 1)
+    for knot in range(fold.many + 1, fold.total()):
+        one, other = lower_knots(fold, knot)
+        joined = {first | second for first in cuts[one] for second in cuts[other] if len(first | second) <= size}
+        labels.append(1 + min(max(labels[lower] for lower in cut) for cut in joined))
+        cuts.append(joined | {frozenset([knot])})
+    return labels
+
+
 def tie_truths(fold, lighting):
     """The truths of all ties of a fold at a lighting, told apart from the program."""
     truths = [False] + [f"{lighting:b}".zfill(fold.many)[-number] == "1" for number in range(1, fold.many + 1)]
@@ -204,3 +251,49 @@ def tie_truths(fold, lighting):
         other_lit = truths[other // 2] if other % 2 == 0 else not truths[other // 2]
         truths.append(one_lit and other_lit)
     return [truth != bool(turn) for truth in truths for turn in (0, 1)]
+
+
+def made_board(many, piece_count, output_count, seed, reach=None):
+    """What a board is made of, the same for the same seed; `reach` tells how far back cuts go, at the most."""
+    chance = random.Random(seed)
+    lowers = list(range(1, many + 1))
+    pieces = []
+    for number in range(piece_count):
+        # Some numbers are left out, as few as leave room for all pieces.
+        knot = max(lowers[-1], many) + chance.choice([1, 1, 1, 1, 2])
+        near = lowers if reach is None else lowers[-reach:]
+        cut = sorted(chance.sample(near, chance.randint(1, min(6, len(near)))))
+        pieces.append((knot, cut, chance.getrandbits(2 ** len(cut))))
+        lowers.append(knot)
+    ties = [2 * lowers[-1]]
+    while len(ties) < output_count:
+        ties.append(2 * chance.choice([0, *lowers]) + chance.randint(0, 1))
+    return many, pieces, ties
+
+
+def board_truths(many, pieces, ties, lighting):
+    """The truths of a board's outputs at a lighting, told apart from the program."""
+    truths = dict(enumerate([False, *lighting_truths(lighting, many)]))
+    for knot, cut, table in pieces:
+        number = int("".join("01"[truths[lower]] for lower in reversed(cut)), 2)
+        truths[knot] = f"{table:064b}"[-1 - number] == "1"
+    return [truths[tie // 2] != (tie % 2 == 1) for tie in ties]
+
+
+def board_columns(many, pieces, ties):
+    """The columns of a board's outputs, told apart from the program."""
+    rows = [board_truths(many, pieces, ties, lighting) for lighting in range(2**many)]
+    return [int("".join("01"[row[place]] for row in reversed(rows)), 2) for place in range(len(ties))]
+
+
+def board_depths(many, pieces, ties):
+    """The depths of a board, told apart from the program: round by round, all pieces that have their cut ahead."""
+    depths = {knot: 0 for knot in range(many + 1)}
+    waiting = {knot: cut for knot, cut, table in pieces}
+    for depth in itertools.count(1):
+        ready = [knot for knot, cut in waiting.items() if all(lower in depths for lower in cut)]
+        for knot in ready:
+            depths[knot] = depth
+            waiting.pop(knot)
+        if not ready:
+            return [depths[tie // 2] for tie in ties]

@@ -8,6 +8,7 @@ from gatefold.labels import Labels
 from gatefold.nets import Net
 from samples import (
     HUGE,
+    WRONG_SIZES,
     braided_fold,
     cone_sets,
     cut_truth,
@@ -16,8 +17,11 @@ from samples import (
     lower_knots,
     made_fold,
     made_net,
+    merged_labels,
     refusal,
+    round_row,
     small_cuts,
+    wide_braid,
 )
 
 SIZES = range(2, 7)
@@ -31,36 +35,6 @@ def least_labels(fold, size):
         cuts = small_cuts(fold, knot, size, cones)
         labels.append(1 + min(max(labels[lower] for lower in cut) for cut in cuts))
     return labels
-
-
-def merged_labels(fold, size):
-    """The labels by all cuts that are had by joining those of the knots of the two ties, knot by knot."""
-    cuts = [{frozenset([knot])} for knot in range(fold.many + 1)]
-    labels = [0] * (fold.many + 1)
-    for knot in range(fold.many + 1, fold.total()):
-        one, other = lower_knots(fold, knot)
-        joined = {first | second for first in cuts[one] for second in cuts[other] if len(first | second) <= size}
-        labels.append(1 + min(max(labels[lower] for lower in cut) for cut in joined))
-        cuts.append(joined | {frozenset([knot])})
-    return labels
-
-
-def round_row(many, count):
-    """A fold in which each and-knot has the one ahead of it and one of the inputs, these in turn."""
-    fold = Fold(many)
-    while fold.total() < count:
-        top = fold.total() - 1
-        fold.both(2 * top + top % 2, 2 * (1 + top % (many - 1)))
-    return fold
-
-
-def wide_braid(many, count):
-    """A fold in which each and-knot has the one ahead of it and one of those `many` ahead."""
-    fold = Fold(many)
-    while fold.total() < count:
-        top = fold.total() - 1
-        fold.both(2 * top + top % 2, 2 * (top - many + 1) + top // 2 % 2)
-    return fold
 
 
 class Checks(unittest.TestCase):
@@ -225,8 +199,7 @@ class RefusedTest(Checks):
     def test_sizes_that_are_none(self):
         fold = made_fold(3, 12, "size")
         pairs = fold_pairs(fold)
-        sizes = [1, 0, -1, -2, -6, 7, 8, 100, HUGE, -HUGE, True, False, None, "", "3", "two", 2.0, 3.5, float("nan")]
-        for size in sizes + [[], [3], (2,), {}, {4: True}, 3j, b"4", fold, Labels, object()]:
+        for size in [*WRONG_SIZES, fold, Labels, object()]:
             with self.subTest(size=size):
                 self.assertIs(refusal(Labels, fold, size), NoSize)
                 self.assertIs(refusal(Labels, Fold(1), size), NoSize)

@@ -13,24 +13,12 @@ from samples import (
     cone_sets,
     fold_pairs,
     long_row,
-    lower_knots,
     made_cut,
     made_fold,
     refusal,
     small_cuts,
+    told_table,
 )
-
-
-def told_table(fold, knot, cut):
-    """The table, told apart from the program: bit by bit, all knots that can be told from the cut up."""
-    signs = ""
-    for number in range(2 ** len(cut)):
-        truths = {lower: number // 2**place % 2 == 1 for place, lower in enumerate(cut)}
-        for lower in range(fold.many + 1, knot + 1):
-            if lower not in truths and all(other in truths for other in lower_knots(fold, lower)):
-                truths[lower] = all(truths[tie // 2] != (tie % 2 == 1) for tie in fold.pair(lower))
-        signs = "01"[truths[knot]] + signs
-    return int(signs, 2)
 
 
 class TableTest(unittest.TestCase):

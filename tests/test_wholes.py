@@ -1,7 +1,7 @@
 import unittest
 
-from gatefold.wholes import is_rising, is_whole
-from samples import HUGE
+from gatefold.wholes import is_between, is_rising, is_whole
+from samples import HUGE, NO_WHOLES
 
 
 class WholeTest(unittest.TestCase):
@@ -10,8 +10,20 @@ class WholeTest(unittest.TestCase):
             self.assertIs(is_whole(number), True)
 
     def test_what_is_none(self):
-        for thing in (True, False, None, "", "1", 1.0, 2.5, [], [1], (1,), {}, b"1", 1j, object(), int):
+        for thing in [*NO_WHOLES, object()]:
             self.assertIs(is_whole(thing), False)
+
+
+class BetweenTest(unittest.TestCase):
+    def test_numbers(self):
+        for number in (-HUGE, -5, 0, 1, 2, 3, 6, 7, 8, HUGE):
+            self.assertIs(is_between(number, 2, 7), number in (2, 3, 6, 7))
+            self.assertIs(is_between(number, 7, 2), False)
+            self.assertIs(is_between(number, number, number), True)
+
+    def test_what_is_no_whole_number(self):
+        for thing in [*NO_WHOLES, object()]:
+            self.assertIs(is_between(thing, -HUGE, HUGE), False)
 
 
 class RisingTest(unittest.TestCase):
